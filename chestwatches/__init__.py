@@ -1,0 +1,1 @@
+"""The medicine chest and the watches of a small party."""

@@ -1,0 +1,158 @@
+"""How calls and answers stand in their lists, the party, and what is kept (promise 0, the interface)."""
+
+import unittest
+
+from chestwatches.party import answers
+from tests.helper import (
+    HUGE, allergy, ask, behind, clash, course, earliest, flat, give, last, medicine, party, probe, retract, room,
+    taken, why,
+)
+
+EACH_CALL = [
+    medicine(), allergy(0, 0), clash(0, 1, 5), give(0, 0, 0, 1), retract(0), why(0, 0, 0, 1), earliest(0, 0, 1, 0),
+    course(0, 0, 1, 1, 0), room(0, 0, 0), taken(0, 0, 0),
+]
+
+
+class Form(unittest.TestCase):
+    def test_each_answer_has_its_count_before_it(self):
+        line = flat([
+            party(4, 70, 80), medicine(500, 6, 4000, 50, 0, 100, 2400), medicine(), allergy(1, 0), clash(0, 1, 3),
+            give(0, 0, 5, 2), why(0, 0, 10, 1), earliest(0, 0, 1, 5), course(0, 0, 2, 4, 0), room(0, 0, 11),
+            taken(0, 0, 28), retract(0), taken(0, 0, 28), retract(0),
+        ])
+        self.assertEqual(answers(line), [
+            1, 0, 1, 0, 1, 1, 1, 1, 1, 1,
+            1, 0, 2, 4, 1, 1, 11, 5, 4, 11, 17, 29, 35, 1, 5,
+            2, 1000, 3500, 1, 0, 2, 0, 3500, 1, -1,
+        ])
+
+    def test_it_gives_back_a_list_of_ints(self):
+        given = answers(flat([party(1, 30)] + EACH_CALL + [medicine(), medicine()] + EACH_CALL + probe(1, 2)))
+        self.assertIs(type(given), list)
+        self.assertEqual({type(number) for number in given}, {int})
+
+    def test_a_line_of_one_call(self):
+        self.assertEqual(answers(party(12, 150)), [1, 0])
+        self.assertEqual(answers(retract(0)), [1, -2])
+
+    def test_a_line_of_400_calls(self):
+        calls = [party(1, 50), medicine(1, 1, 10000, 0, 0, 500, 2400)]
+        calls += [course(0, 0, 1, 20, 0)] * 398
+        found = ask(*calls)
+        self.assertEqual(found[2:], [[20] + list(range(20))] * 398)
+
+    def test_what_is_handed_in_stays_as_it_was(self):
+        line = flat([party(4, 70, 80)] + EACH_CALL + [medicine(), medicine()] + EACH_CALL + probe(2, 2))
+        before = list(line)
+        answers(line)
+        self.assertEqual(line, before)
+
+    def test_what_is_given_back_is_the_callers_own(self):
+        line = flat([party(4, 70), medicine(), course(0, 0, 1, 3, 7)])
+        first = answers(line)
+        kept = list(first)
+        first.append(99)
+        self.assertEqual(answers(line), kept)
+
+    def test_nothing_is_kept_from_one_time_to_the_next(self):
+        line = flat([party(4, 70, 80), medicine(), medicine(), clash(0, 1, 5), give(0, 0, 0, 1), allergy(1, 1)]
+                    + probe(2, 2))
+        first = answers(line)
+        self.assertEqual(answers(medicine()), [1, -2])
+        self.assertEqual(answers(line), first)
+
+
+class LaterCalls(unittest.TestCase):
+    """The calls 11 to 21 with numbers that are out of range where they have any."""
+
+    calls = [[place] + [-HUGE] * many for place, many in
+             ((11, 3), (12, 1), (13, 2), (14, 1), (15, 1), (16, 0), (17, 2), (18, 2), (19, 5), (20, 1), (21, 0))]
+
+    def test_ahead_of_any_party(self):
+        self.assertEqual(ask(*self.calls), [[-2]] * 11)
+
+    def test_the_calls_behind_them_are_found(self):
+        before = [party(4, 70, 80), medicine(), medicine(), give(0, 1, 20, 3)]
+        for call in self.calls:
+            self.assertEqual(behind(before + [call], probe(2, 2)), behind(before, probe(2, 2)))
+
+
+class NoParty(unittest.TestCase):
+    def test_each_call_ahead_of_any_party(self):
+        for call in EACH_CALL:
+            self.assertEqual(ask(call), [[-2]])
+
+    def test_no_party_goes_ahead_of_out_of_range(self):
+        for call in EACH_CALL:
+            for number in (-HUGE, -1, HUGE):
+                self.assertEqual(ask([call[0]] + [number] * (len(call) - 1)), [[-2]])
+
+    def test_a_refused_party_is_none(self):
+        for call in EACH_CALL:
+            self.assertEqual(ask(party(0, 70), call), [[-1], [-2]])
+
+    def test_a_call_ahead_of_the_party_changes_nothing(self):
+        calls = [party(4, 70, 80), medicine(), medicine()] + probe(2, 2)
+        self.assertEqual(behind(EACH_CALL, calls), ask(*calls))
+
+
+class Party(unittest.TestCase):
+    def test_span(self):
+        for span in (1, 2, 11, 12):
+            self.assertEqual(ask(party(span, 70)), [[0]])
+        for span in (0, 13, -1, -HUGE, HUGE):
+            self.assertEqual(ask(party(span, 70)), [[-1]])
+
+    def test_how_many_weights(self):
+        for many in range(21):
+            self.assertEqual(ask(party(4, *[70] * many)), [[0 if 1 <= many <= 6 else -1]])
+
+    def test_each_weight(self):
+        for many in range(1, 7):
+            for at in range(many):
+                for weight in (30, 31, 149, 150, 29, 151, 0, -70, -HUGE, HUGE):
+                    weights = [70] * many
+                    weights[at] = weight
+                    self.assertEqual(ask(party(4, *weights)), [[0 if 30 <= weight <= 150 else -1]])
+
+    def test_a_row_out_of_range_is_read_whole(self):
+        self.assertEqual(ask(party(4, *[HUGE] * 20), party(4), party(4, 70), medicine()), [[-1], [-1], [0], [0]])
+
+    def test_its_people_are_those_told(self):
+        for many in range(1, 7):
+            calls = [party(4, *range(30, 30 + many)), medicine(1, 1, 10000, 1, 0, 5, 2400)]
+            asked = [taken(p, 0, 0) for p in range(many)]
+            self.assertEqual(behind(calls, asked), [[0, 30 + p] for p in range(many)])
+            self.assertEqual(behind(calls, [taken(many, 0, 0)]), [[-1]])
+
+    def test_a_second_party_begins_anew(self):
+        old = [party(4, 70, 80), medicine(500, 6, 4000, 50, 0, 3, 2000), medicine(), clash(0, 1, 40), allergy(1, 0),
+               give(0, 0, 5, 2), give(0, 1, 100, 3)]
+        new = [party(3, 60, 50, 40), retract(0), why(0, 0, 0, 1), medicine(100, 2, 300, 0, 0, 9, 100),
+               medicine(7, 3, 700, 2, 0, 10, 2400)]
+        calls = new + probe(3, 2)
+        self.assertEqual(behind(old, calls), ask(*calls))
+        self.assertEqual(ask(*calls)[:5], [[0], [-1], [-1], [0], [1]])
+
+    def test_a_second_party_has_all_its_room_anew(self):
+        def full():
+            calls = [party(4, 70)] + [medicine()] * 8 + [clash(0, 1, 1)] * 30
+            return calls + [give(0, 0, t, 1) for t in range(60)]
+        found = ask(*(full() + full()))
+        self.assertEqual(found[:99], found[99:])
+        self.assertEqual(found[-1], [59])
+
+    def test_a_refused_party_leaves_the_one_there_is(self):
+        old = [party(4, 70, 80), medicine(500, 6, 4000, 50, 0, 9, 2000), medicine(), clash(0, 1, 40), allergy(1, 0),
+               give(0, 0, 5, 2), give(0, 1, 100, 3)]
+        for wrong in (party(0, 60), party(13, 60), party(4), party(4, 60, 29), party(4, *[60] * 7)):
+            self.assertEqual(ask(*(old + [wrong]))[-1], [-1])
+            self.assertEqual(behind(old + [wrong], probe(2, 2)), behind(old, probe(2, 2)))
+
+    def test_the_party_answers_nothing_but_0(self):
+        self.assertEqual(last(party(4, 70), party(5, 80)), [0])
+
+
+if __name__ == "__main__":
+    unittest.main()
