@@ -22,7 +22,15 @@ class Dose:
         self.units = units
 
 
-# The party, its medicines, allergies, clashes and doses, each in the order of telling.
+# Hours in which a person is ill: from the beginning to before the end.
+class Illness:
+    def __init__(self, person, begin, end):
+        self.person = person
+        self.begin = begin
+        self.end = end
+
+
+# The party, its medicines, allergies, clashes, doses and illnesses, each in the order of telling.
 class Book:
     def __init__(self, span, weights):
         self.span = span
@@ -34,6 +42,7 @@ class Book:
         # so that a dose needn't go through every clash.
         self.apart = {}
         self.doses = []
+        self.illnesses = []
 
 
 # Keeps the clash as it was told, and the greatest hours of these two.

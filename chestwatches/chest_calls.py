@@ -1,12 +1,12 @@
-"""The calls on the chest: medicines, allergies, clashes, doses and courses.
+"""The calls on the chest: medicines, allergies, clashes, doses, courses and what is left.
 
 Each is handed numbers that are within their ranges.
 """
 
 from chestwatches.book import Dose, Medicine, write_clash
-from chestwatches.reading import numbers_as_told
-from chestwatches.refusals import DOSE_FORBIDDEN, FULL, NO_CALL, NO_HOUR, OUT_OF_RANGE, TOLD_OR_SAME, WRITTEN_AGAINST
-from chestwatches.rules import course_hours, earliest_hour, limit_for, milligrams_taken, room_for, why_not
+from chestwatches.refusals import DOSE_FORBIDDEN, FULL, NO_HOUR, TOLD_OR_SAME, WRITTEN_AGAINST
+from chestwatches.rules import course_hours, earliest_hour, limit_for, milligrams_taken, moved, most_milligrams
+from chestwatches.rules import room_for, units_left, why_not
 
 MOST_MEDICINES = 8
 MOST_CLASHES = 30
@@ -100,6 +100,33 @@ def taken(book, numbers):
     return [milligrams_taken(book, person, medicine, numbers[2]), limit_for(book, person, medicine)]
 
 
+def left(book, numbers):
+    return [units_left(book, book.doses, numbers[0])]
+
+
+def log(book, numbers):
+    told = [len(book.doses)]
+    for dose in book.doses:
+        told.extend([dose.person, dose.medicine, dose.hour, dose.units])
+    return told
+
+
+def worst(book, numbers):
+    return [most_milligrams(book, numbers[0], numbers[1])]
+
+
+def treat(book, numbers):
+    many = numbers[3]
+    if len(book.doses) + many > MOST_DOSES:
+        return [FULL]
+    dose = Dose(numbers[0], numbers[1], numbers[4], numbers[2])
+    hours = course_hours(book, dose, many)
+    if hours is None:
+        return [NO_HOUR]
+    book.doses.extend([moved(dose, hour) for hour in hours])
+    return [len(hours)] + hours
+
+
 CHEST_CALLS = {
     1: tell_medicine,
     2: tell_allergy,
@@ -111,14 +138,17 @@ CHEST_CALLS = {
     8: course,
     9: room,
     10: taken,
+    15: left,
+    16: log,
+    18: worst,
+    19: treat,
 }
 
 
-# The answer of a call other than party, once there is a party.
+def is_chest_call(call):
+    return call.place in CHEST_CALLS
+
+
 def answer_chest_call(book, call):
-    if call.place not in CHEST_CALLS:
-        return [NO_CALL]
-    if not numbers_as_told(book, call):
-        return [OUT_OF_RANGE]
     asked = CHEST_CALLS[call.place]
     return asked(book, call.numbers)

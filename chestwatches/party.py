@@ -1,9 +1,10 @@
 """Answers a line of calls on a new party."""
 
 from chestwatches.book import Book
-from chestwatches.chest_calls import answer_chest_call
-from chestwatches.reading import PARTY, party_as_told, read_calls
+from chestwatches.chest_calls import answer_chest_call, is_chest_call
+from chestwatches.reading import PARTY, numbers_as_told, party_as_told, read_calls
 from chestwatches.refusals import NO_PARTY, OUT_OF_RANGE
+from chestwatches.watch_calls import answer_watch_call
 
 
 # A line of calls; at its beginning there is no party and so no book.
@@ -24,7 +25,11 @@ def answer_call(line, call):
         return begin_party(line, call)
     if line.book is None:
         return [NO_PARTY]
-    return answer_chest_call(line.book, call)
+    if not numbers_as_told(line.book, call):
+        return [OUT_OF_RANGE]
+    if is_chest_call(call):
+        return answer_chest_call(line.book, call)
+    return answer_watch_call(line.book, call)
 
 
 # For each call in the list: how many numbers are answered, then these.

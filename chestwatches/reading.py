@@ -4,9 +4,12 @@ PARTY = 0
 MOST_PEOPLE = 6
 LEAST_WEIGHT = 30
 MOST_WEIGHT = 150
+HOURS = 2400
+LAST_WATCH = 199
 
 # The arguments of each place from 0 to 21. "p" is a person, "m" a medicine, "j" a dose's number,
-# "t" an hour and "u" units; a name that has a range below is held to that range.
+# "i" an illness's number, "t" an hour and "u" units; a name that has a range below is held to that
+# range. The k of counts has a name of its own, since it reaches one further than that of watch.
 ARGUMENTS = (
     ("span",),
     ("unit", "gap", "cap", "for_a_kilogram", "drowsy", "stock", "spoilt"),
@@ -22,7 +25,7 @@ ARGUMENTS = (
     ("p", "begin", "till"),
     ("k",),
     ("a", "b"),
-    ("k",),
+    ("watches_before",),
     ("m",),
     (),
     ("p", "t"),
@@ -42,6 +45,10 @@ RANGES = {
     "stock": (0, 500),
     "spoilt": (0, 2400),
     "hours": (1, 72),
+    "begin": (0, 2399),
+    "k": (0, 199),
+    "a": (0, 199),
+    "watches_before": (0, 200),
     "n": (1, 20),
     "t": (0, 2399),
     "u": (1, 10),
@@ -73,14 +80,21 @@ def read_calls(numbers):
     return calls
 
 
-# The least and the greatest number that may stand for an argument of that name.
-def range_of(book, name):
+# The least and the greatest number that may stand for an argument of that name, where ahead
+# is the number ahead of it in the call.
+def range_of(book, name, ahead):
     if name == "p":
         return (0, len(book.weights) - 1)
     if name == "m":
         return (0, len(book.medicines) - 1)
     if name == "j":
         return (0, len(book.doses) - 1)
+    if name == "i":
+        return (0, len(book.illnesses) - 1)
+    if name == "till":
+        return (ahead + 1, HOURS)
+    if name == "b":
+        return (ahead, LAST_WATCH)
     return RANGES[name]
 
 
@@ -99,5 +113,9 @@ def party_as_told(call):
 
 # Whether each number of a call other than party is within its range.
 def numbers_as_told(book, call):
-    names = ARGUMENTS[call.place]
-    return all([within(number, range_of(book, name)) for number, name in zip(call.numbers, names)])
+    ahead = 0
+    for number, name in zip(call.numbers, ARGUMENTS[call.place]):
+        if not within(number, range_of(book, name, ahead)):
+            return False
+        ahead = number
+    return True

@@ -6,6 +6,5 @@ TOLD_OR_SAME = -4
 NO_HOUR = -6
 WRITTEN_AGAINST = -7
 FULL = -8
-NO_CALL = -100
 # A dose that may not be given is refused with this less the number of the reason.
 DOSE_FORBIDDEN = -10

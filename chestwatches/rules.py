@@ -30,9 +30,13 @@ def is_allergic(book, dose):
     return (dose.person, dose.medicine) in book.allergies
 
 
+# The units that are left of the medicine's stock beside these doses.
+def units_left(book, doses, medicine):
+    return book.medicines[medicine].stock - sum([dose.units for dose in doses if dose.medicine == medicine])
+
+
 def is_out_of_stock(book, doses, dose):
-    used = sum([other.units for other in doses if other.medicine == dose.medicine])
-    return used + dose.units > book.medicines[dose.medicine].stock
+    return dose.units > units_left(book, doses, dose.medicine)
 
 
 # How many hours the two doses must be apart, 0 if they have nothing to do with one another.
@@ -69,6 +73,14 @@ def units_in_day(doses, first):
 # The milligrams that the person has had of the medicine in the 24 hours that end with the hour.
 def milligrams_taken(book, person, medicine, hour):
     units = units_in_day(doses_of(book.doses, person, medicine), hour - DAY + 1)
+    return units * book.medicines[medicine].unit
+
+
+# The most milligrams that the person has had of the medicine in any 24 hours one behind another.
+def most_milligrams(book, person, medicine):
+    same = doses_of(book.doses, person, medicine)
+    # Some fullest 24 hours begin with a dose: moved on to their first dose they lose none.
+    units = max([units_in_day(same, dose.hour) for dose in same], default=0)
     return units * book.medicines[medicine].unit
 
 

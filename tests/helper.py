@@ -49,6 +49,50 @@ def taken(p, m, t):
     return [10, p, m, t]
 
 
+def ill(p, begin, till):
+    return [11, p, begin, till]
+
+
+def watch(k):
+    return [12, k]
+
+
+def watches(a, b):
+    return [13, a, b]
+
+
+def counts(k):
+    return [14, k]
+
+
+def left(m):
+    return [15, m]
+
+
+def log():
+    return [16]
+
+
+def fit(p, h):
+    return [17, p, h]
+
+
+def worst(p, m):
+    return [18, p, m]
+
+
+def treat(p, m, u, n, t):
+    return [19, p, m, u, n, t]
+
+
+def well(i):
+    return [20, i]
+
+
+def state():
+    return [21]
+
+
 def flat(calls):
     return [number for call in calls for number in call]
 
@@ -85,13 +129,16 @@ def behind(before, calls):
 
 def probe(people, medicines, hours=(0, 10, 24, 47, 2399)):
     """Calls whose answers tell much of what is known; those at the end change it."""
-    calls = []
+    calls = [state(), log(), watches(0, 199), counts(200)] + [left(m) for m in range(medicines)]
     for p in range(people):
         for m in range(medicines):
             for t in hours:
                 calls.extend([why(p, m, t, 1), why(p, m, t, 10), room(p, m, t), taken(p, m, t)])
             calls.append(earliest(p, m, 1, 0))
             calls.append(course(p, m, 1, 3, 5))
+            calls.append(worst(p, m))
+        calls.extend([fit(p, h) for h in hours])
+    calls.append(ill(0, 5, 9))
     calls.append(medicine())
     for p in range(people):
         calls.append(retract(0))

@@ -136,6 +136,37 @@ class Language(unittest.TestCase):
                 if isinstance(node, ast.Call) and isinstance(node.func, ast.Attribute):
                     self.assertIn(node.func.attr, METHODS)
 
+    def test_ranges_and_their_like_are_walked_at_once(self):
+        walkers = ("list", "tuple", "dict", "sorted", "sum", "any", "all", "enumerate", "zip", "min", "max")
+        for path, text, tree in self.each():
+            walked = [node.iter for node in ast.walk(tree) if isinstance(node, (ast.For, ast.comprehension))]
+            walked += [node.args[0] for node in ast.walk(tree)
+                       if isinstance(node, ast.Call) and isinstance(node.func, ast.Name) and node.func.id in walkers]
+            for node in ast.walk(tree):
+                if isinstance(node, ast.Call) and isinstance(node.func, ast.Name):
+                    if node.func.id in ("zip", "enumerate", "reversed", "range"):
+                        self.assertIn(node, walked)
+                if isinstance(node, ast.Call) and isinstance(node.func, ast.Attribute):
+                    if node.func.attr in ("items", "keys", "values"):
+                        self.assertIn(node, walked)
+
+    def test_a_list_or_dict_of_the_top_holds_none_and_is_not_handed_on(self):
+        for path, text, tree in self.each():
+            kept = [node for node in tree.body if isinstance(node, ast.Assign)]
+            held = [node.targets[0].id for node in kept if isinstance(node.value, (ast.List, ast.Dict))]
+            for node in kept:
+                inner = [part for part in ast.walk(node.value) if isinstance(part, (ast.List, ast.Dict))]
+                self.assertLessEqual(len(inner), 1)
+            read = []
+            for node in ast.walk(tree):
+                if isinstance(node, ast.Subscript) and isinstance(node.ctx, ast.Load):
+                    read.append(node.value)
+                if isinstance(node, ast.Compare):
+                    read.extend(node.comparators)
+            for node in ast.walk(tree):
+                if isinstance(node, ast.Name) and isinstance(node.ctx, ast.Load) and node.id in held:
+                    self.assertIn(node, read, node.id)
+
     def test_no_local_is_called_like_a_class_or_an_import(self):
         for path, text, tree in self.each():
             top = [alias.name for node in tree.body if isinstance(node, ast.ImportFrom) for alias in node.names]

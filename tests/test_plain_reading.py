@@ -3,7 +3,8 @@
 import random
 import unittest
 
-from tests.helper import HUGE, ask
+from chestwatches.party import answers
+from tests.helper import HUGE, ask, flat
 
 
 class Slow:
@@ -61,8 +62,9 @@ class Slow:
     def party(self, span, weights):
         if not 1 <= span <= 12 or not 1 <= len(weights) <= 6 or not all(30 <= w <= 150 for w in weights):
             return [-1]
+        self.span = span
         self.weights = weights
-        self.medicines, self.allergies, self.clashes, self.doses = [], [], [], []
+        self.medicines, self.allergies, self.clashes, self.doses, self.illnesses = [], [], [], [], []
         return [0]
 
     def medicine(self, *numbers):
@@ -128,13 +130,94 @@ class Slow:
     def taken(self, p, m, t):
         return [self.had(self.doses, p, m, range(t - 23, t + 1)), self.limit(p, m)]
 
+    def unfit(self, p, h):
+        for person, begin, end in self.illnesses:
+            if person == p and begin <= h < end:
+                return True
+        for person, m, t, u in self.doses:
+            if person == p and h in range(t, t + self.medicines[m][4]):
+                return True
+        return False
+
+    def standing(self, many):
+        stood = []
+        for k in range(many):
+            able = [p for p in range(len(self.weights))
+                    if not any(self.unfit(p, h) for h in range(k * self.span, k * self.span + self.span))]
+            if able:
+                fewest = min(stood.count(p) for p in able)
+                able = [p for p in able if stood.count(p) == fewest]
+                none_yet = [p for p in able if p not in stood]
+                if none_yet:
+                    able = none_yet
+                else:
+                    lasts = {p: max(w for w in range(k) if stood[w] == p) for p in able}
+                    able = [p for p in able if lasts[p] == min(lasts.values())]
+                stood.append(min(able))
+            else:
+                stood.append(-1)
+        return stood
+
+    def ill(self, p, begin, till):
+        if len(self.illnesses) == 30:
+            return [-8]
+        self.illnesses.append((p, begin, till))
+        return [len(self.illnesses) - 1]
+
+    def watch(self, k):
+        return [self.standing(k + 1)[-1]]
+
+    def watches(self, a, b):
+        return [b - a + 1] + self.standing(b + 1)[a:]
+
+    def counts(self, k):
+        stood = self.standing(k)
+        return [stood.count(p) for p in range(len(self.weights))]
+
+    def left(self, m):
+        return [self.medicines[m][5] - sum(d[3] for d in self.doses if d[1] == m)]
+
+    def log(self):
+        return [len(self.doses)] + [number for dose in self.doses for number in dose]
+
+    def fit(self, p, h):
+        return [0 if self.unfit(p, h) else 1]
+
+    def worst(self, p, m):
+        firsts = {first for d in self.doses for first in range(d[2] - 23, d[2] + 1)}
+        return [max([self.had(self.doses, p, m, range(first, first + 24)) for first in firsts], default=0)]
+
+    def treat(self, p, m, u, n, t):
+        if len(self.doses) + n > 60:
+            return [-8]
+        told = self.course(p, m, u, n, t)
+        if told != [-6]:
+            self.doses += [(p, m, hour, u) for hour in told[1:]]
+        return told
+
+    def well(self, i):
+        self.illnesses = self.illnesses[:i] + self.illnesses[i + 1:]
+        return [len(self.illnesses)]
+
+    def state(self):
+        told = [self.span, len(self.weights)] + self.weights
+        for part in (self.medicines, self.allergies, self.clashes, self.illnesses):
+            told += [len(part)] + [number for one in part for number in one]
+        return told
+
     def in_range(self, place, numbers):
         ends = {"p": (0, len(self.weights) - 1), "m": (0, len(self.medicines) - 1), "j": (0, len(self.doses) - 1),
-                "t": (0, 2399), "u": (1, 10), "n": (1, 20), "h": (1, 72)}
+                "t": (0, 2399), "u": (1, 10), "n": (1, 20), "h": (1, 72), "i": (0, len(self.illnesses) - 1),
+                "k": (0, 199), "c": (0, 200)}
         if place == 1:
             told = [(1, 1000), (1, 48), (1, 10000), (0, 200), (0, 24), (0, 500), (0, 2400)]
+        elif place == 11:
+            told = [ends["p"], ends["t"], (numbers[1] + 1, 2400)]
+        elif place == 13:
+            told = [ends["k"], (numbers[0], 199)]
         else:
-            words = {2: "pm", 3: "mmh", 4: "pmtu", 5: "j", 6: "pmtu", 7: "pmut", 8: "pmunt", 9: "pmt", 10: "pmt"}
+            words = {2: "pm", 3: "mmh", 4: "pmtu", 5: "j", 6: "pmtu", 7: "pmut", 8: "pmunt", 9: "pmt", 10: "pmt",
+                     12: "k", 14: "c", 15: "m", 16: "", 17: "pt", 18: "pm", 19: "pmunt", 20: "i", 21: ""}
             told = [ends[letter] for letter in words[place]]
         return all(least <= number <= most for number, (least, most) in zip(numbers, told))
 
@@ -146,7 +229,7 @@ class Slow:
         if not self.in_range(call[0], call[1:]):
             return [-1]
         names = ["party", "medicine", "allergy", "clash", "give", "retract", "why", "earliest", "course", "room",
-                 "taken"]
+                 "taken", "ill", "watch", "watches", "counts", "left", "log", "fit", "worst", "treat", "well", "state"]
         return getattr(self, names[call[0]])(*call[1:])
 
     def rules_kept(self):
@@ -162,9 +245,10 @@ class Lines:
 
     def __init__(self, seed):
         self.chance = random.Random(seed)
-        self.people = self.chance.randint(1, 3)
+        self.people = self.chance.randint(1, 4)
+        self.span = self.chance.choice([1, 2, 4, 4, 7, 12])
         self.medicines = self.chance.randint(1, 4)
-        self.first = self.chance.choice([0, 0, 700, 2250])
+        self.first = self.chance.choice([0, 0, 0, 700, 2250])
         self.reach = self.chance.choice([30, 80, 149])
 
     def hour(self):
@@ -180,14 +264,27 @@ class Lines:
         pick = self.chance
         spoilt = pick.choice([2400, 2400, 2400, self.hour()])
         return [1, pick.choice([1, 10, 100]), pick.choice([1, 2, 4, 12, 30]), pick.choice([9, 50, 300, 1000]),
-                pick.choice([0, 0, 1, 5]), 0, pick.choice([500, 500, 60, 12]), spoilt]
+                pick.choice([0, 0, 1, 5]), pick.choice([0, 0, 1, 3, 8, 24]), pick.choice([500, 500, 60, 12]), spoilt]
 
     def told_party(self):
-        return [0, 4, self.people] + [self.chance.randint(30, 150) for each in range(self.people)]
+        return [0, self.span, self.people] + [self.chance.randint(30, 150) for each in range(self.people)]
+
+    def watch(self):
+        return min(199, self.hour() // self.span)
+
+    def told_illness(self):
+        begin = self.hour()
+        return [11, self.chance.randrange(self.people), begin,
+                min(2400, begin + self.chance.choice([0, 1, 1, 2, 4, 5, 9, 20, 60]))]
+
+    def told_watches(self):
+        a = self.watch()
+        return [13, a, min(199, a + self.chance.randint(-1, 12))]
 
     def call(self):
         pick = self.chance
-        place = pick.choice([0, 1, 2, 3, 3, 5, 5, 5, 6, 6, 6, 7, 7, 7, 8, 8, 9, 9, 10, 10] + [4] * 18)
+        place = pick.choice([0, 1, 2, 3, 3, 5, 5, 5, 6, 6, 6, 7, 7, 7, 8, 8, 9, 9, 10, 10, 11, 11, 11, 12, 12, 13, 13,
+                             14, 14, 15, 16, 17, 17, 18, 18, 19, 20, 20, 21] + [4] * 18)
         made = {
             0: lambda: self.told_party() if pick.random() < 0.02 else [0, 4, 1, 29],
             1: self.told_medicine,
@@ -200,8 +297,19 @@ class Lines:
             8: lambda: [8] + self.dose() + [self.units(), pick.randint(1, 20), self.hour()],
             9: lambda: [9] + self.dose() + [self.hour()],
             10: lambda: [10] + self.dose() + [self.hour()],
+            11: self.told_illness,
+            12: lambda: [12, self.watch()],
+            13: self.told_watches,
+            14: lambda: [14, self.watch() + 1],
+            15: lambda: [15, self.dose()[1]],
+            16: lambda: [16],
+            17: lambda: [17, self.dose()[0], self.hour()],
+            18: lambda: [18] + self.dose(),
+            19: lambda: [19] + self.dose() + [self.units(), pick.choice([1, 2, 3, 4, 20]), self.hour()],
+            20: lambda: [20, pick.randint(0, 6)],
+            21: lambda: [21],
         }[place]()
-        if made[0] != 0 and pick.random() < 0.03:
+        if made[0] != 0 and len(made) > 1 and pick.random() < 0.03:
             made[pick.randrange(1, len(made))] = pick.choice([-1, -HUGE, HUGE, 11, 2400])
         return made
 
@@ -214,7 +322,8 @@ class PlainReading(unittest.TestCase):
     def test_every_answer_is_as_the_document_says(self):
         seen = {}
         most_doses = 0
-        for seed in range(60):
+        most_illnesses = 0
+        for seed in range(80):
             calls = Lines(seed).line(130)
             slow = Slow()
             found = ask(*calls)
@@ -224,13 +333,34 @@ class PlainReading(unittest.TestCase):
                 seen[(call[0], min(told[0], 0))] = True
                 if call[0] == 6:
                     seen[("why", told[0])] = True
+                if call[0] == 13 and len(told) > 1:
+                    seen[("nobody", -1 in told[1:])] = True
                 if slow.weights is not None:
                     most_doses = max(most_doses, len(slow.doses))
+                    most_illnesses = max(most_illnesses, len(slow.illnesses))
             self.assertTrue(slow.rules_kept(), seed)
         # The lines must reach what they are there for.
-        for sight in [(4, -11 - n) for n in range(6)] + [("why", n) for n in range(7)] + [(7, -6), (8, -6), (3, -7)]:
+        sights = [(4, -11 - n) for n in range(6)] + [("why", n) for n in range(7)]
+        sights += [(7, -6), (8, -6), (3, -7), (19, -6), (19, -8), ("nobody", True), ("nobody", False)]
+        sights += [(place, 0) for place in range(22)] + [(place, -1) for place in range(22) if place not in (16, 21)]
+        for sight in sights:
             self.assertIn(sight, seen)
-        self.assertGreater(most_doses, 20)
+        self.assertGreater(most_doses, 40)
+        self.assertGreater(most_illnesses, 5)
+
+    def test_lines_of_400_calls_twice_over(self):
+        places = set()
+        for seed in range(900, 912):
+            maker = Lines(seed)
+            calls = maker.line(399 - maker.medicines)
+            self.assertEqual(len(calls), 400)
+            places |= {call[0] for call in calls}
+            line = flat(calls)
+            before = list(line)
+            first = answers(line)
+            self.assertEqual(line, before)
+            self.assertEqual(answers(line), first)
+        self.assertEqual(places, set(range(22)))
 
 
 if __name__ == "__main__":
